@@ -1,0 +1,1 @@
+"""Slopeyard: machines whose levels run along straight slopes, and what they can come to."""
