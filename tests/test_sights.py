@@ -156,9 +156,9 @@ class ImageTest(SightsTest):
 
     def test_flat_lots(self):
         source = random.Random(37)
-        for _ in range(40):
+        for _ in range(80):
             count = source.randint(2, 4)
-            tie = tuple(source.randint(-2, 2) for _ in range(count))
+            tie = tuple(source.randint(-5, 5) for _ in range(count))
             rows = box(count, -2, 3) + [(tie, 1), (tuple(-weight for weight in tie), -1)]
             sums = random_sums(source, count, source.randint(1, 3), 2)
             self.check_image(source, count, rows, sums, Lot(count, rows).image(sums))

@@ -1,5 +1,6 @@
 """The workings behind lots: corners, and the two ways to an image."""
 
+import itertools
 import random
 import unittest
 from unittest import mock
@@ -7,6 +8,7 @@ from unittest import mock
 from slopeyard import corners, images
 from slopeyard.corners import ENDLESS, OVER, TOP, Corner
 from slopeyard.lots import Lot
+from slopeyard.thin import needed, thinned, tightest
 from slopeyard.ties import solved, ways_along
 from tests.reckoning import box, random_rows, random_sums, units
 
@@ -128,6 +130,31 @@ class TiesTest(unittest.TestCase):
             self.assertEqual(len(used), len(ways))
 
 
+class ThinTest(unittest.TestCase):
+    def test_walls_that_touch_a_box_at_its_rims_are_needless(self):
+        for count in (1, 2, 3, 4):
+            walls, needless = [(*weights, -bound) for weights, bound in box(count, -1, 1)], []
+            for weights in itertools.product((-1, 0, 1), repeat=count):
+                if sum(map(abs, weights)) > 1:
+                    needless.append((*weights, -sum(map(abs, weights))))
+            source = random.Random(66)
+            for _ in range(10):
+                mixed = walls + needless
+                source.shuffle(mixed)
+                inside = [source.randint(-1, 1) for _ in range(count)]
+                self.assertEqual(sorted(thinned(mixed, inside, 2)), sorted(walls))
+
+    def test_those_that_are_asked_for_alone(self):
+        walls = [(1, 0, -1), (0, 1, -1), (1, 1, -2), (2, 1, -4), (-1, -1, -1)]
+        self.assertEqual(needed(walls, [2, 0, 3], [0, 0], 1), [0])
+        self.assertEqual(needed(walls, [0, 1, 2, 3, 4], [0, 0], 1), [0, 1, 4])
+
+    def test_tightest(self):
+        walls = [(2, 4, -6), (1, 2, -4), (3, 6, -8), (0, 0, -1), (-1, -2, 0), (3, 6, -8), (1, 2, 5)]
+        self.assertEqual(sorted(tightest(walls[:4])), [(3, 6, -8)])
+        self.assertEqual(sorted(tightest(walls)), [(-1, -2, 0), (1, 2, 5)])
+
+
 class ImagesTest(unittest.TestCase):
     def lots(self, source):
         for _ in range(80):
@@ -141,6 +168,14 @@ class ImagesTest(unittest.TestCase):
             yield Lot(count, rows), random_sums(source, count, 3, 1)
             yield Lot(count, rows), units(count, range(count - 1))
             yield Lot(count, rows), units(count, range(count - 2))
+        for count in (3, 4, 5, 3, 4, 5):
+            rows = []
+            while len(rows) < 3 * count:
+                weights = tuple(source.randint(-3, 3) for _ in range(count))
+                if sum(weights) < 0:
+                    rows.append((weights, 0))
+            yield Lot(count, rows), units(count, range(1, count))
+            yield Lot(count, rows), random_sums(source, count, count - 1, 2)
 
     def test_no_row_of_an_image_is_needless(self):
         for lot, sums in self.lots(random.Random(63)):
@@ -159,6 +194,16 @@ class ImagesTest(unittest.TestCase):
                 along = lot.image(sums)
             self.assertTrue(outside == along)
             self.assertEqual(sorted(outside.rows()), sorted(along.rows()))
+
+    def test_images_of_boxes_where_many_states_meet_a_row(self):
+        source = random.Random(67)
+        for many, levels in [(3, 5), (4, 5), (4, 6), (4, 7)] * 3:
+            lot, sums = Lot(levels, box(levels, 0, 1)), random_sums(source, levels, many, 1)
+            with mock.patch.object(images, "_from_outside", lambda free, kept, walls: bool(free)):
+                outside = lot.image(sums).rows()
+            with mock.patch.object(images, "_from_outside", lambda free, kept, walls: False):
+                along = lot.image(sums).rows()
+            self.assertEqual(sorted(outside), sorted(along))
 
     def test_many_walls_are_looked_at_from_outside(self):
         source = random.Random(65)
