@@ -8,7 +8,7 @@ from slopeyard.errors import BadName, BadRow, BadSlope, BadSums
 _MOST_LETTERS = 8
 _MOST_PARTS = 4
 _MOST_ROWS = 8
-_MOST_SLOPES = 4
+MOST_SLOPES = 4
 _ROW_WEIGHT = 99
 _ROW_BOUND = 9999
 _SLOPE_NUMBER = 9999
@@ -43,7 +43,7 @@ def fit_rows(rows, count):
 
 def fit_slopes(slopes, count):
     """The slopes for so many levels."""
-    if not 1 <= len(slopes) <= _MOST_SLOPES:
+    if not 1 <= len(slopes) <= MOST_SLOPES:
         raise BadSlope("there are not 1 to 4 slopes")
     for slope in slopes:
         if len(slope) != count:

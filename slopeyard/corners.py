@@ -63,7 +63,7 @@ class Corner:
             slopes = [dot(wall, column) for column in self.columns]
             place = self._yielding(slopes, prices)
             if place < 0:
-                return self._barring(entry, slopes)
+                return self._barred_by(entry, slopes)
             still = self.held[place] < 0
             old, price = self.part, prices[place]
             self._swap(place, entry, weighed(self.table, self.columns[place]))
@@ -99,7 +99,7 @@ class Corner:
                     best = place
         return best
 
-    def _barring(self, entry, slopes):
+    def _barred_by(self, entry, slopes):
         pairs = [(self.held[place], -slope) for place, slope in enumerate(slopes) if slope]
         return [(entry, self.part)] + pairs
 

@@ -10,7 +10,8 @@ from slopeyard.corners import Corner
 from slopeyard.folds import folded, inner
 from slopeyard.hulls import seen
 from slopeyard.thin import thinned, tightest
-from slopeyard.ties import solved, ways_along
+from slopeyard.ties import both_ways, solved, ways_along
+from slopeyard.vectors import picked, spread
 
 # Walls are folded along one way after another, or what is set of them is found from outside: this is sooner done
 # where few levels are set, the fewer the more so, and where there are many ways or very many walls.
@@ -30,7 +31,7 @@ def imaged(corner, sums):
     ties, walls, _, _ = solved(ties, walls, levels)
     ties, walls, kept, used = solved(ties, walls, list(range(many)))
     walls = tightest([(*wall[:many], wall[-1]) for wall in walls])
-    return walls + _both_ways([(*tie[:many], tie[-1]) for tie in used])
+    return walls + both_ways([(*tie[:many], tie[-1]) for tie in used])
 
 
 def _sum_ties(sums):
@@ -42,14 +43,6 @@ def _sum_ties(sums):
     return ties
 
 
-def _both_ways(ties):
-    walls = []
-    for tie in ties:
-        walls.append(tie)
-        walls.append(tuple([-number for number in tie]))
-    return walls
-
-
 def _narrowed(corner, ties, walls, many):
     """Ties and walls that tell the same of what is set, with no level left in the walls that the ties don't tell.
 
@@ -59,7 +52,7 @@ def _narrowed(corner, ties, walls, many):
     inside = [0] * many + inside
     width = len(inside)
     _, others, places, _ = solved([walls[place] for place in flat], ties + walls, list(range(many, width)))
-    ties, walls = others[:many], tightest([_picked(wall, places) for wall in others[many:]])
+    ties, walls = others[:many], tightest([picked(wall, places) for wall in others[many:]])
     left, _, free, _ = solved(ties, [], places)
     _, _, kept, _ = solved(left, [], list(range(many)))
     if not kept:
@@ -68,9 +61,9 @@ def _narrowed(corner, ties, walls, many):
         walls = thinned(walls, [inside[place] for place in places], part)
     if _from_outside(free, kept, walls):
         walls = _seen_from_outside(walls, [ties[place] for place in kept], kept, places)
-        return ties, [_spread(wall, kept, width) for wall in walls]
-    ways = ways_along([_picked(tie, places) for tie in ties], len(places))
-    return ties, [_spread(wall, places, width) for wall in folded(walls, ways)]
+        return ties, [spread(wall, kept, width) for wall in walls]
+    ways = ways_along([picked(tie, places) for tie in ties], len(places))
+    return ties, [spread(wall, places, width) for wall in folded(walls, ways)]
 
 
 def _from_outside(free, kept, walls):
@@ -91,16 +84,3 @@ def _seen_from_outside(walls, ties, kept, places):
     corner = Corner(len(places), walls)
     corner.settle()
     return seen(corner, sums, den)
-
-
-def _picked(numbers, places):
-    """What stands in these places, and what is added."""
-    return (*[numbers[place] for place in places], numbers[-1])
-
-
-def _spread(numbers, places, width):
-    """The numbers in these places, noughts in all others of so many, and what is added."""
-    spread = [0] * width + [numbers[-1]]
-    for place, number in zip(places, numbers):
-        spread[place] = number
-    return spread

@@ -5,7 +5,7 @@ from slopeyard.errors import BadCount, BadRow, BadState, BadSums, NoLevel
 from slopeyard.images import imaged
 from slopeyard.parts import lowest, over_one_den
 from slopeyard.rows import plain_row, rows_text
-from slopeyard.vectors import dot, shortened, unit, weighed
+from slopeyard.vectors import dot, placed, shortened, unit, weighed
 
 _MOST_LEVELS = 8
 
@@ -145,10 +145,7 @@ class Lot:
 
     def _weights(self, pairs, ahead):
         """What stands ahead, and a weight for each row, as the pairs (row's place, weight) tell, in lowest terms."""
-        numbers = [0] * len(self._rows)
-        for place, weight in pairs:
-            numbers[place] = weight
-        return shortened(ahead + numbers)
+        return shortened(ahead + placed(pairs, len(self._rows)))
 
 
 def _check_weights(weights, count):

@@ -3,17 +3,17 @@
 from slopeyard.bounds import check_name, check_word, fit_rows, fit_slopes, fit_sums
 from slopeyard.errors import BadCount, Full, InUse, NoDoor, NoRoom, Taken
 
-_MOST_LEVELS = 4
-_MOST_ROOMS = 12
-_MOST_DOORS = 24
-_MOST_BEGINS = 8
+MOST_LEVELS = 4
+MOST_ROOMS = 12
+MOST_DOORS = 24
+MOST_BEGINS = 8
 
 
 class Machine:
     """A machine of so many levels."""
 
     def __init__(self, count):
-        if not 1 <= count <= _MOST_LEVELS:
+        if not 1 <= count <= MOST_LEVELS:
             raise BadCount("a machine has 1 to 4 levels")
         self.count = count
         self._rooms = {}
@@ -27,7 +27,7 @@ class Machine:
         if name in self._rooms:
             raise Taken("there is a room of this name")
         room = (fit_rows(rows, self.count), fit_slopes(slopes, self.count))
-        if len(self._rooms) == _MOST_ROOMS:
+        if len(self._rooms) == MOST_ROOMS:
             raise Full("a machine has at most 12 rooms")
         self._rooms[name] = room
 
@@ -37,7 +37,7 @@ class Machine:
         self._check_room(behind)
         check_word(word)
         door = (first, behind, word, fit_rows(rows, self.count), fit_sums(sums, self.count))
-        if len(self._doors) == _MOST_DOORS:
+        if len(self._doors) == MOST_DOORS:
             raise Full("a machine has at most 24 doors")
         number = self._coming
         self._doors[number] = door
@@ -48,7 +48,7 @@ class Machine:
         """Makes a beginning, and tells its number."""
         self._check_room(room)
         begin = (room, fit_rows(rows, self.count))
-        if len(self._begins) == _MOST_BEGINS:
+        if len(self._begins) == MOST_BEGINS:
             raise Full("a machine has at most 8 beginnings")
         self._begins.append(begin)
         return len(self._begins) - 1
@@ -124,3 +124,18 @@ class Machine:
     def _check_door(self, number):
         if number not in self._doors:
             raise NoDoor("there is no such door")
+
+
+def assembled(count, rooms, doors, begins):
+    """A machine of these, told as it keeps them: rooms by their names, doors in order, whatever their rows."""
+    machine = Machine(count)
+    machine._rooms = dict(rooms)
+    machine._doors = dict(enumerate(doors, start=1))
+    machine._begins = list(begins)
+    machine._coming = len(doors) + 1
+    return machine
+
+
+def skip_to(machine, number):
+    """Has the machine's next door come with this number, as if those ahead of it had come and been shut."""
+    machine._coming = number

@@ -52,6 +52,20 @@ def rows_text(rows):
 
 def read_rows(text, *, count):
     """The list of rows, of so many weights each, that are written so."""
-    if text == _NONE:
-        return []
-    return [read_row(part, count=count) for part in text.split(_BETWEEN)]
+    return [read_row(part, count=count) for part in _row_texts(text)]
+
+
+def read_any_rows(text):
+    """The list of rows, each of whatever count of weights, one at least, that are written so."""
+    return [_read_any_row(part) for part in _row_texts(text)]
+
+
+def _row_texts(text):
+    return [] if text == _NONE else text.split(_BETWEEN)
+
+
+def _read_any_row(text):
+    count = len(text.split(" ")) - 2
+    if count < 1:
+        raise BadText(0)
+    return read_row(text, count=count)

@@ -31,6 +31,15 @@ def solved(ties, others, places):
     return ties, others, free, used
 
 
+def both_ways(ties):
+    """The ties as walls: each as it is, and with the other sign."""
+    walls = []
+    for tie in ties:
+        walls.append(tie)
+        walls.append(tuple([-number for number in tie]))
+    return walls
+
+
 def ways_along(ties, length):
     """Ways of so many levels that change none of the ties, none of them made up of the others."""
     by_place = {}

@@ -58,3 +58,24 @@ def unit(length, place):
     numbers = [0] * length
     numbers[place] = 1
     return numbers
+
+
+def picked(numbers, places):
+    """What stands in these places, and what is added."""
+    return (*[numbers[place] for place in places], numbers[-1])
+
+
+def spread(numbers, places, width):
+    """The numbers in these places, noughts in all others of so many, and what is added."""
+    wide = [0] * width + [numbers[-1]]
+    for place, number in zip(places, numbers):
+        wide[place] = number
+    return wide
+
+
+def placed(pairs, length):
+    """So many noughts, but in the place of each pair (place, number) its number."""
+    numbers = [0] * length
+    for place, number in pairs:
+        numbers[place] = number
+    return numbers

@@ -56,10 +56,10 @@ def random_slopes(source, count):
     return [tuple(source.randint(-3, 3) for _ in range(count)) for _ in range(source.randint(1, 4))]
 
 
-def random_plan(source, count=None):
+def random_plan(source, count=None, names=tuple(NAMES)):
     plan = Plan(count or source.randint(1, 4))
     count = plan.count
-    names = source.sample(NAMES, source.randint(1, 4))
+    names = source.sample(names, source.randint(1, 4))
     for name in names:
         rows = box(count, -8, 8)[:source.randint(0, 6)] + loose_rows(source, count, source.randint(0, 2))
         plan.rooms[name] = (rows, random_slopes(source, count))

@@ -1,4 +1,4 @@
-"""Names, arguments and places of what the interface lists so far: by place or by name alike, but behind a star."""
+"""Names, arguments and places of what the interface lists: by place or by name alike, but behind a star."""
 
 import importlib
 import inspect
@@ -12,6 +12,11 @@ FUNCTIONS = {
     "lifted": ["begin_rows(machine, begin)", "door_rows(machine, number, rows)", "begin_goal(machine, begin, row)",
                "door_goal(machine, number, row)"],
     "runs": ["run_fault(machine, run)", "run_end(machine, run)"],
+    "reach": ["behind(machine, trail=(), *, begin=0)", "run_by(machine, state, trail=(), *, begin=0)",
+              "before(machine, room, rows, trail=())"],
+    "looker": ["paper_fault(machine, room, rows, paper)"],
+    "pairs": ["pair(one, other)", "parted(one, other, run)"],
+    "pages": ["page(yard)", "read(text)"],
 }
 CLASSES = {
     ("lots", "Lot(count, rows=())"): [
@@ -22,6 +27,13 @@ CLASSES = {
         "add_room(name, rows, slopes)", "add_door(first, behind, word, rows, sums)", "add_begin(room, rows)",
         "raze(room)", "shut(number)", "rooms()", "room(name)", "doors()", "door(number)", "begins()", "coming()",
         "twin()", "__len__()", "__eq__(other)", "__repr__()"],
+    ("search", "Search(machine, room, rows, *, most=20)"): [
+        "go(many=1)", "word()", "lots()", "trails()", "left()", "run()", "paper()"],
+    ("walker", "Walker(machine, room, state)"): ["led(time)", "place()", "moment()", "taken()"],
+    ("yard", "Yard()"): [
+        "do(deed)", "undo()", "redo()", "together(deeds)", "machines()", "machine(name)", "made_of(name)", "past()",
+        "twin()", "__len__()", "__eq__(other)", "__repr__()"],
+    ("desk", "Desk()"): ["tell(line)"],
 }
 
 

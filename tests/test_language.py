@@ -15,8 +15,10 @@ METHODS = set("""append clear copy count endswith extend find get index insert i
 isupper items join keys ljust lower lstrip partition pop remove replace reverse rfind rjust rpartition rsplit rstrip
 setdefault split splitlines startswith strip update upper values zfill bit_length isascii removeprefix removesuffix
 __init__""".split())
-BARRED = (ast.GeneratorExp, ast.Global, ast.AsyncFunctionDef, ast.Await, ast.Div, ast.Try, ast.With, ast.Set,
-          ast.SetComp, ast.Yield, ast.YieldFrom, ast.Match, ast.AnnAssign, ast.Lambda, ast.Nonlocal, ast.NamedExpr)
+# Functions that a file takes out of a table ahead of the call, under this name.
+TAKEN_FROM_TABLES = {"action"}
+BARRED = (ast.GeneratorExp, ast.Global, ast.AsyncFunctionDef, ast.Await, ast.Div, ast.With, ast.Set, ast.SetComp,
+          ast.Yield, ast.YieldFrom, ast.Match, ast.AnnAssign, ast.Lambda, ast.Nonlocal, ast.NamedExpr)
 LIBRARY = {"math": {"gcd", "lcm"}}
 NEVER = {"register", "mro", "elements", "open", "input", "law", "version_info", "with_traceback", "add_note"}
 
@@ -52,6 +54,37 @@ class LanguageTest(unittest.TestCase):
                     self.assertNotIn("%", node.value if isinstance(node.value, str) else "", name)
                 if isinstance(node, ast.FunctionDef):
                     self.assertEqual(node.decorator_list, [], (name, node.name))
+
+    def test_own_errors_alone_are_caught(self):
+        own = {node.name for name, _, tree in trees() if name == "errors.py" for node in tree.body
+               if isinstance(node, ast.ClassDef)}
+        for name, _, tree in trees():
+            for node in ast.walk(tree):
+                if not isinstance(node, ast.Try):
+                    continue
+                self.assertEqual((node.orelse, node.finalbody), ([], []), name)
+                for handler in node.handlers:
+                    caught = handler.type.elts if isinstance(handler.type, ast.Tuple) else [handler.type]
+                    for error in caught:
+                        self.assertIn(error.id, own, (name, handler.lineno))
+
+    def test_tables_of_a_module_are_read_alone(self):
+        for name, _, tree in trees():
+            tables = {node.targets[0].id for node in tree.body if isinstance(node, ast.Assign)
+                      and isinstance(node.value, (ast.Dict, ast.List))}
+            fine = set()
+            for node in ast.walk(tree):
+                if isinstance(node, ast.Subscript) and isinstance(node.ctx, ast.Load):
+                    fine.add(id(node.value))
+                elif isinstance(node, (ast.For, ast.comprehension)):
+                    fine.add(id(node.iter))
+                elif isinstance(node, ast.Compare):
+                    fine |= {id(other) for other in node.comparators}
+                elif isinstance(node, ast.Call) and getattr(node.func, "id", None) in ("len", "list", "dict", "sorted"):
+                    fine |= {id(argument) for argument in node.args}
+            for node in ast.walk(tree):
+                if isinstance(node, ast.Name) and isinstance(node.ctx, ast.Load) and node.id in tables:
+                    self.assertIn(id(node), fine, (name, node.lineno))
 
     def test_module_level(self):
         allowed = (ast.Expr, ast.ImportFrom, ast.FunctionDef, ast.ClassDef, ast.Assign)
@@ -109,7 +142,7 @@ class LanguageTest(unittest.TestCase):
                 if not isinstance(node, ast.Call):
                     continue
                 if isinstance(node.func, ast.Name):
-                    known = BUILTINS | functions | set().union(*LIBRARY.values())
+                    known = BUILTINS | functions | TAKEN_FROM_TABLES | set().union(*LIBRARY.values())
                     self.assertIn(node.func.id, known, (name, node.lineno))
                 else:
                     self.assertIsInstance(node.func, ast.Attribute, (name, node.lineno))
