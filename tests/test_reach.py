@@ -168,8 +168,8 @@ class RunByTest(unittest.TestCase):
 
     def test_states_that_are_not_come_to(self):
         machine = vessel()
-        for state, trail in [(((21, 2),), ()), (((-1, 9),), ()), (((12, 1),), (1,)), (((1, 2),), (1, 3)), (((0, 1),), (1, 3, 3)),
-                             (((5, 1),), (2,)), (((5, 1),), (1, 1)), (((1, BIG),), (1, 3))]:
+        for state, trail in [(((21, 2),), ()), (((-1, 9),), ()), (((12, 1),), (1,)), (((1, 2),), (1, 3)),
+                             (((0, 1),), (1, 3, 3)), (((5, 1),), (2,)), (((5, 1),), (1, 1)), (((1, BIG),), (1, 3))]:
             self.assertIsNone(run_by(machine, state, trail))
         self.assertIsNone(run_by(machine, ((3, 1),), begin=1))
 
