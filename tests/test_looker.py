@@ -92,7 +92,8 @@ class ByHandTest(unittest.TestCase):
                  ("in", 0, []), ("in", 0, shown[::-1]), ("in", 0, [(0, [0] * 5), shown[1]]),
                  ("in", 0, [(1, [0, 1, 0, 1]), shown[1]]), ("in", 0, [(1, [0, 1, 0, 1, 0, 0]), shown[1]]),
                  ("in", 0, [shown[0], (1, [-1, 0, 0, 0, 1])]), ("in", 0, [shown[0], (2, [0, 0, 0, 0, 1])]),
-                 ("in", 0, [(1, [0, 1, 0, 0, 0]), shown[1]])]
+                 ("in", 0, [(1, [0, 1, 0, 0, 0]), shown[1]]), ("on", 0, shown), ("none", [0, 1, 0, 1, 0], shown),
+                 ("in", 0)]
         for how in wrong:
             self.told((lots, [how, begins[1]], steps, clear), ("begins", 0))
             self.told((lots, [how], [], []), ("begins", 0))
@@ -113,10 +114,12 @@ class ByHandTest(unittest.TestCase):
         how = first[2]
         for one in [(1, 1, how), (0, 2, how), (0, 3, how), (0, 0, how), (-2, 1, how), (0, 1, second[2]),
                     (0, 1, ("in", 0, how[2])), (0, 1, ("in", 1, how[2][:1])), (0, 1, ("in", -1, how[2])),
-                    (0, 1, ("in", 1, [(1, [0, 0, 2, 0]), (2, [0, 2, 0, 0])])), second]:
+                    (0, 1, ("in", 1, [(1, [0, 0, 2, 0]), (2, [0, 2, 0, 0])])), second,
+                    (0, 1, ("", 1, how[2])), (0, 1, ("in", 1))]:
             self.told((lots, begins, [one, second], clear), ("steps", 0))
         for one in [first, (0, 2, how), (0, 2, ("none", [1, 1, 0, 0])), (0, 2, ("none", [0, 1, 1])),
-                    (0, 2, ("none", [0, 1, 1, 0, 0])), (1, 2, second[2])]:
+                    (0, 2, ("none", [0, 1, 1, 0, 0])), (1, 2, second[2]),
+                    (0, 2, ("none", [0, 1, 1, 0], how[2]))]:
             self.told((lots, begins, [first, one], clear), ("steps", 1))
 
     def test_steps_that_lack_and_that_are_too_many(self):

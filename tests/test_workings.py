@@ -8,9 +8,11 @@ from unittest import mock
 from slopeyard import corners, images
 from slopeyard.corners import ENDLESS, OVER, TOP, Corner
 from slopeyard.lots import Lot
+from slopeyard.slim import slimmed
 from slopeyard.thin import needed, thinned, tightest
 from slopeyard.ties import solved, ways_along
 from tests.reckoning import box, random_rows, random_sums, units
+from tests.simplex import all_keep, kept_somewhere
 
 
 def product(one, other):
@@ -215,6 +217,54 @@ class ImagesTest(unittest.TestCase):
         with mock.patch.object(images, "_MANY_WALLS", 1000):
             along = lot.shadow(2)
         self.assertEqual(sorted(outside.rows()), sorted(along.rows()))
+
+
+def as_rows(walls):
+    return [(wall[:-1], -wall[-1]) for wall in walls]
+
+
+class SlimTest(unittest.TestCase):
+    def check(self, count, walls):
+        rows = as_rows(walls)
+        slim = as_rows(slimmed(count, walls))
+        for row in slim:
+            self.assertTrue(all_keep(rows, count, row), (rows, row))
+        for row in rows:
+            self.assertTrue(all_keep(slim, count, row), (slim, row))
+        # A tie stands there as two rows; of all else none is kept wherever the others are.
+        backs = [(tuple(-weight for weight in weights), -bound) for weights, bound in slim]
+        for place, row in enumerate(slim):
+            others = slim[:place] + slim[place + 1:]
+            self.assertFalse(all_keep(others, count, row), (slim, row))
+            self.assertEqual(row in backs, all_keep(slim, count, backs[place]))
+
+    def test_random(self):
+        source = random.Random(71)
+        checked = 0
+        for _ in range(300):
+            count = source.randint(1, 4)
+            walls = degenerate_walls(source, count, source.randint(0, 9))
+            if source.random() < 0.5:
+                walls = [(*weights, -bound) for weights, bound in random_rows(source, count, source.randint(0, 8))]
+            if source.random() < 0.3:
+                walls = [(*wall[:-1], wall[-1] + 40 * wall[0]) for wall in walls]
+            if kept_somewhere(as_rows(walls), count):
+                self.check(count, walls)
+                checked += 1
+        self.assertGreater(checked, 150)
+
+    def test_far_from_nought(self):
+        walls = [(*weights, -bound) for weights, bound in box(3, 900, 907)]
+        self.assertEqual(sorted(slimmed(3, walls + [(1, 1, 1, -5000), (0, 0, 0, 0), (2, 0, 0, -1814)])), sorted(walls))
+
+    def test_one_state_alone(self):
+        walls = slimmed(2, [(1, 0, -7), (-1, 0, 7), (0, 1, 3), (0, -2, -6), (1, 1, 0), (1, -1, -10)])
+        self.assertEqual(len(walls), 4)
+        self.check(2, [tuple(wall) for wall in walls])
+
+    def test_no_walls(self):
+        self.assertEqual(slimmed(3, []), [])
+        self.assertEqual(slimmed(1, [(0, -4), (0, 0)]), [])
 
 
 if __name__ == "__main__":

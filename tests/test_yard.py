@@ -169,7 +169,7 @@ class RefusalsTest(YardCase):
         self.refused(BadCount, yard, *[("machine", "c", count) for count in (0, 4, -1, 10 ** 19)])
         self.refused(BadName, full(), ("machine", "A", 4))
         self.refused(Taken, full(), ("machine", "a", 4))
-        self.refused(BadCount, full(), ("machine", "i", 4))
+        self.refused(BadCount, full(), ("machine", "i", 4), ("machine", "i", 0))
         self.refused(Full, full(), ("machine", "i", 3))
 
     def test_pair(self):
